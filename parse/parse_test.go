@@ -427,10 +427,42 @@ func TestFaults(t *testing.T) {
 		refuses(t, s+" $", len(s)+1, api.ErrRune)
 		refuses(t, s+" =b", len(s)+1, api.ErrRune)
 		refuses(t, s+" >b", len(s)+1, api.ErrRune)
-		// What a token is at fault with comes ahead of what the grammar has against it.
-		refuses(t, s+" "+long, len(s)+1, api.ErrName)
-		refuses(t, s+" "+large, len(s)+1, api.ErrLarge)
 	}
+}
+
+// TestWhichFault: where the grammar takes no name, or no number, ErrText counts, however long or large it is; where it takes one, what this is at fault with.
+func TestWhichFault(t *testing.T) {
+	large := []string{"9223372036854775808", "18446744073709551616", strings.Repeat("9", 300), script("9223372036854775808", 0x660), script("99999999999999999999", 0xff10)}
+	long := []string{"abcdefghijklmnopq", strings.Repeat("é", 17), strings.Repeat("名", 100), "abcdefghijklmnop₂"}
+	p := calls()[1]
+	for _, behind := range []string{"", " ", ")", "+b", " $", ":c", "(", "?a:b", " 9223372036854775808", "\u3000abcdefghijklmnopq"} {
+		for _, token := range slices.Concat(large, long) {
+			for _, ahead := range []string{"a ", "5 ", "(a)", "(a ", "((a) ", "-a ", "-5 ", "- 5\t", "~a\u3000", "a+b ", "a?b ", "a?b:c ", "a?(b)", "(a?b:c)", "a<b ", "a==b ", "a<<b ", strings.Repeat("(", 100) + "a "} {
+				refuses(t, ahead+token+behind, len(ahead), api.ErrText)
+			}
+			for _, ahead := range []string{"@a ", "(@a)", "-@a\t", "a+@b ", "@a?@b\u3000"} {
+				p.refuses(t, ahead+token+behind, len(ahead), api.ErrText)
+			}
+		}
+		for _, token := range large {
+			refuses(t, "a+"+token+behind, 2, api.ErrLarge)
+			for _, ahead := range []string{"@", "@ ", "a+@", "(@\u3000"} {
+				p.refuses(t, ahead+token+behind, len(ahead), api.ErrText)
+			}
+		}
+		for _, token := range long {
+			refuses(t, "a+"+token+behind, 2, api.ErrName)
+			refuses(t, "5"+token+behind, 1, api.ErrText)
+			for _, ahead := range []string{"@", "@ ", "a+@", "(@\u3000"} {
+				p.refuses(t, ahead+token+behind, len(ahead), api.ErrName)
+			}
+		}
+	}
+	refuses(t, "1"+large[3], 1, api.ErrText)
+	refuses(t, "-1"+large[4], 2, api.ErrText)
+	refuses(t, "a $", 2, api.ErrRune)
+	refuses(t, "a ₂", 2, api.ErrRune)
+	p.refuses(t, "@ $", 2, api.ErrRune)
 }
 
 func TestSignsThatAreNone(t *testing.T) {
@@ -527,6 +559,7 @@ func TestEveryShortText(t *testing.T) {
 		tokens string
 	}{
 		{4, "a,5,-,~,(,),?,:,<,==,|,+,*, ,@,$"},
+		{5, "a,5,9223372036854775808, abcdefghijklmnopq,-,(,),@, "},
 		{7, "a,(,),?,:"},
 		{7, "a,<,==,&,-"},
 		{6, "a,5,-,(,),@"},
@@ -668,7 +701,7 @@ func TestHolesWithoutNames(t *testing.T) {
 		err api.Errno
 	}{
 		{"@", 1, api.ErrText}, {"@ ", 2, api.ErrText}, {"@1", 1, api.ErrText}, {"@ 1", 2, api.ErrText}, {"@@a", 1, api.ErrText}, {"@(a)", 1, api.ErrText}, {"@-a", 1, api.ErrText}, {"@+", 1, api.ErrText}, {"@)", 1, api.ErrText}, {"a+@", 3, api.ErrText},
-		{"@$", 1, api.ErrRune}, {"@₂", 1, api.ErrRune}, {"@=", 1, api.ErrRune}, {"@9223372036854775808", 1, api.ErrLarge}, {"@\xff", 1, api.ErrUtf8}, {"$@\xff", 2, api.ErrUtf8},
+		{"@$", 1, api.ErrRune}, {"@₂", 1, api.ErrRune}, {"@=", 1, api.ErrRune}, {"@9223372036854775808", 1, api.ErrText}, {"@\xff", 1, api.ErrUtf8}, {"$@\xff", 2, api.ErrUtf8},
 		{"a@b", 1, api.ErrText}, {"a @b", 2, api.ErrText}, {"@a@b", 2, api.ErrText}, {"@a b", 3, api.ErrText}, {"5@a", 1, api.ErrText}, {"(@a)@b", 4, api.ErrText}, {"@a(", 2, api.ErrText}, {"@a)", 2, api.ErrText}, {"(@a", 3, api.ErrText},
 	} {
 		p.refuses(t, f.s, f.at, f.err)

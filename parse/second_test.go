@@ -82,12 +82,13 @@ type waiting struct {
 	level int
 }
 
-// reader is a text that is being read: at is the place of the token that was read last, to the place behind.
+// reader is a text that is being read: at is the place of the token that was read last, to the place behind, own what it is at fault with where a part may begin with it.
 type reader struct {
 	s       string
 	pattern bool
 	at, to  int
 	err     api.Errno
+	own     api.Errno
 	ops     []waiting
 	trees   []tree
 }
@@ -151,6 +152,7 @@ func run(s, set string) int {
 func (r *reader) token(tied bool) (kind, text string) {
 	r.to += run(r.s[r.to:], blanks)
 	r.at = r.to
+	r.own = api.OK
 	rest := r.s[r.at:]
 	for _, x := range spellings {
 		if strings.HasPrefix(rest, x.written) && (x.sign != "@" || r.pattern) {
@@ -169,7 +171,7 @@ func (r *reader) token(tied bool) (kind, text string) {
 	if run(rest, letters) > 0 {
 		n := run(rest, letters+scripts+indices)
 		if utf8.RuneCountInString(rest[:n]) > 16 {
-			r.err = api.ErrName
+			r.own = api.ErrName
 		}
 		r.to += n
 		return "name", rest[:n]
@@ -197,7 +199,7 @@ func (r *reader) large(digits string, tied bool) {
 		most.Sub(most, big.NewInt(1))
 	}
 	if value(digits).Cmp(most) > 0 {
-		r.err = api.ErrLarge
+		r.own = api.ErrLarge
 	}
 }
 
@@ -205,15 +207,18 @@ func (r *reader) large(digits string, tied bool) {
 func (r *reader) operand(kind, text string) bool {
 	switch kind {
 	case "number":
+		r.fail(r.own)
 		r.trees = append(r.trees, lit(value(text).Int64()))
 		return false
 	case "name":
+		r.fail(r.own)
 		r.trees = append(r.trees, vari(text))
 		return false
 	case "@":
 		if kind, text = r.token(false); kind != "name" {
 			r.fail(api.ErrText)
 		}
+		r.fail(r.own)
 		r.trees = append(r.trees, hole(text))
 		return false
 	case "(":
@@ -225,6 +230,7 @@ func (r *reader) operand(kind, text string) bool {
 	case "-":
 		if run(r.s[r.to:], scripts) > 0 {
 			_, text = r.token(true)
+			r.fail(r.own)
 			n := value(text)
 			r.trees = append(r.trees, lit(n.Neg(n).Int64()))
 			return false

@@ -32,6 +32,7 @@ type token struct {
 	what     rune
 	from, to int
 	n        uint64
+	err      api.Errno // what a name or a number is at fault with; the grammar asks for it where it takes one, for ErrText stands ahead of it
 }
 
 // tokens reads a text token by token: no further than the grammar comes, for a fault behind that does not count.
@@ -55,7 +56,7 @@ func open(s string, pattern bool) tokens {
 // next goes on to the next token.
 func (t *tokens) next() { t.nextUpTo(math.MaxInt64) }
 
-// nextUpTo goes on to the next token; a number may not be above most.
+// nextUpTo goes on to the next token; a number is at fault above most.
 func (t *tokens) nextUpTo(most uint64) {
 	behind := t.now.to
 	for i, r := range t.text[behind:] {
@@ -71,17 +72,19 @@ func (t *tokens) nextUpTo(most uint64) {
 func (t *tokens) at(from int, r rune, most uint64) token {
 	switch runes.Kind(r) {
 	case letter:
-		to, _ := runes.Span(t.text, from)
-		if !runes.Name(t.text[from:to]) {
-			panic(fault{from, api.ErrName})
+		found := token{what: name, from: from}
+		found.to, _ = runes.Span(t.text, from)
+		if !runes.Name(t.text[from:found.to]) {
+			found.err = api.ErrName
 		}
-		return token{what: name, from: from, to: to}
+		return found
 	case digit:
-		n, to, bad := runes.Number(t.text, from)
-		if bad != api.OK || n > most {
-			panic(fault{from, api.ErrLarge})
+		found := token{what: number, from: from}
+		found.n, found.to, found.err = runes.Number(t.text, from)
+		if found.n > most {
+			found.err = api.ErrLarge
 		}
-		return token{what: number, from: from, to: to, n: n}
+		return found
 	case sign:
 		if what, size := t.signAt(from, r); size > 0 {
 			return token{what: what, from: from, to: from + size}
